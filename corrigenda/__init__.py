@@ -1,0 +1,1 @@
+"""Corrigenda: differences and patches for any kind of data."""
