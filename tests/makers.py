@@ -6,6 +6,14 @@ from collections import Counter
 BIT = ("number", 2)
 THREE = ("number", 3)
 TEN = ("number", 10)
+PAIR = ("record", (BIT, THREE))
+EITHER = ("choice", (BIT, ("row", THREE)))
+ROW = ("row", TEN)
+SET = ("set", TEN)
+BAG = ("bag", TEN)
+TABLE = ("table", TEN, BIT)
+
+SAME = ("same",)
 
 SMALL_KINDS = [
     BIT,

@@ -2,15 +2,10 @@ import unittest
 
 from corrigenda.errors import BadValue, Unfit
 from corrigenda.patch import fits, made, sample, turned
-from tests.makers import BIT, SMALL_KINDS, TEN, THREE, Chance, NoFit, meant, values_of
+from tests.makers import (
+    BAG, BIT, EITHER, PAIR, ROW, SAME, SET, SMALL_KINDS, TABLE, TEN, Chance, NoFit, meant, values_of,
+)
 
-SAME = ("same",)
-PAIR = ("record", (BIT, THREE))
-EITHER = ("choice", (BIT, ("row", THREE)))
-ROW = ("row", TEN)
-SET = ("set", TEN)
-BAG = ("bag", TEN)
-TABLE = ("table", TEN, BIT)
 STEPS = ("row", (("keep", 2), ("cut", 5), ("add", 7), ("add", 8), ("mend", ("turn", 1, 2)), ("keep", 1)))
 CHANGES = ("set", ((0, "cut"), (1, "add"), (2, "in"), (3, "out")))
 COUNTS = ("bag", ((0, 0, 2), (1, 1, 0), (2, 2, -2), (3, 3, -1)))

@@ -6,7 +6,7 @@ from corrigenda.patch import check_patch, cost, fits, made, sample, turned
 from tests.makers import ANYTHING, BIT, SMALL_KINDS, THREE, deep_row, doubled, values_of
 
 FOUR_BITS = ("record", (BIT, BIT, BIT, BIT))
-# 1 + 3 * 5 + 3 kinds, and 1 + 4 * 5 - 1 kinds besides.
+# Each FOUR_BITS is 5 kinds: 1 + 3 * 5 + 3, 1 + 3 * 5 + 4 and 1 + 4 * 5 in all.
 NINETEEN = ("record", (FOUR_BITS, FOUR_BITS, FOUR_BITS, ("row", ("row", BIT))))
 TWENTY = ("record", (FOUR_BITS, FOUR_BITS, FOUR_BITS, ("record", (BIT, BIT, BIT))))
 TWENTY_ONE = ("record", (FOUR_BITS, FOUR_BITS, FOUR_BITS, FOUR_BITS))

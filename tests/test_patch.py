@@ -3,15 +3,10 @@ import unittest
 from corrigenda.errors import BadPatch
 from corrigenda.kind import check_value
 from corrigenda.patch import check_patch, cost, fits, made, sample, turned
-from tests.makers import ANYTHING, BIT, SMALL_KINDS, TEN, THREE, Chance, doubled
+from tests.makers import (
+    ANYTHING, BAG, BIT, EITHER, PAIR, ROW, SAME, SET, SMALL_KINDS, TABLE, TEN, Chance, doubled,
+)
 
-SAME = ("same",)
-PAIR = ("record", (BIT, THREE))
-EITHER = ("choice", (BIT, ("row", THREE)))
-ROW = ("row", TEN)
-SET = ("set", TEN)
-BAG = ("bag", TEN)
-TABLE = ("table", TEN, BIT)
 NESTED = ("row", ("table", BIT, ("bag", ("set", BIT))))
 BIG = ("number", 1000)
 

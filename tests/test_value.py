@@ -3,10 +3,7 @@ import unittest
 from corrigenda.errors import BadValue
 from corrigenda.kind import check_value, weight
 from corrigenda.patch import fits, made
-from tests.makers import ANYTHING, BIT, SMALL_KINDS, TEN, THREE, belongs, doubled, values_of
-
-PAIR = ("record", (BIT, THREE))
-EITHER = ("choice", (BIT, ("row", THREE)))
+from tests.makers import ANYTHING, BIT, EITHER, PAIR, SMALL_KINDS, TEN, THREE, belongs, doubled, values_of
 
 WEIGHTS = [
     (TEN, 0, 1),
