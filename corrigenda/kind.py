@@ -185,14 +185,16 @@ def is_rising(values):
     return all([values[at - 1] < values[at] for at in range(1, len(values))])
 
 
-def first_value(kind):
-    """The value of the kind that stands before all others in their order."""
+def light_value(kind):
+    """A value of the kind that no other one is lighter than."""
     if kind[0] == "number":
         return 0
     if kind[0] == "record":
-        return tuple([first_value(inner) for inner in kind[1]])
+        return tuple([light_value(inner) for inner in kind[1]])
     if kind[0] == "choice":
-        return (0, first_value(kind[1][0]))
+        found = [(k, light_value(inner)) for k, inner in enumerate(kind[1])]
+        weights = [heft(kind, value) for value in found]
+        return found[weights.index(min(weights))]
     return ()
 
 

@@ -3,7 +3,7 @@
 from corrigenda.effect import effect
 from corrigenda.errors import BadPatch, BadValue, Unfit
 from corrigenda.form import is_patch
-from corrigenda.kind import check_kind, first_value, heft, is_value
+from corrigenda.kind import check_kind, heft, is_value, light_value
 
 
 def check_patch(kind, patch):
@@ -128,7 +128,7 @@ def fitting(kind, patch):
     """A value that fits what is known to be a patch of the kind."""
     word = patch[0]
     if word == "same":
-        return first_value(kind)
+        return light_value(kind)
     if word in ("only", "turn"):
         return patch[1]
     if word == "record":
@@ -149,7 +149,7 @@ def fitting_row(kind, parts):
     items = []
     for word, what in parts:
         if word == "keep":
-            items.extend([first_value(kind)] * what)
+            items.extend([light_value(kind)] * what)
         elif word == "cut":
             items.append(what)
         elif word == "mend":

@@ -184,6 +184,146 @@ class Chance:
         return (word, self.patch(kind) if word == "mend" else self.value(kind))
 
 
+class Fitting(Chance):
+    """Makes patches by chance that fit a value, and writes patches otherwise."""
+
+    def fit(self, kind, value):
+        """A patch that fits the value."""
+        word = self.random.choice(["same", "only", "turn"] + [kind[0]] * 7)
+        if word == "only":
+            return ("only", value)
+        if word in ("turn", "number"):
+            other = self.value(kind)
+            return ("turn", value, other) if value != other else ("same",)
+        if word == "same":
+            return ("same",)
+        if word == "record":
+            return ("record", tuple(self.fit(inner, item) for inner, item in zip(kind[1], value)))
+        if word == "choice":
+            return ("choice", value[0], self.fit(kind[1][value[0]], value[1]))
+        if word == "row":
+            return ("row", self.fit_row(kind[1], value))
+        if word == "table":
+            return ("table", self.fit_table(kind, dict(value)))
+        there = {each: 1 for each in value} if word == "set" else dict(value)
+        some = sorted(set(self.some(kind[1])) | {each for each in there if self.random.randrange(2)})
+        if word == "set":
+            words = [["add", "out"], ["cut", "in"]]
+            return ("set", tuple((v, self.random.choice(words[v in there])) for v in some))
+        counts = [(v, self.random.randrange(there.get(v, 0) + 1)) for v in some]
+        changes = [(v, least, self.random.randrange(-least, 3)) for v, least in counts]
+        return ("bag", tuple(change for change in changes if change[1:] != (0, 0)))
+
+    def fit_row(self, kind, value):
+        parts = []
+        for item in value + (None,):
+            while self.random.randrange(5) == 0:
+                parts.append(("add", self.value(kind)))
+            if item is not None:
+                word = self.random.choice(["keep", "keep", "cut", "mend"])
+                what = {"keep": 1, "cut": item}.get(word)
+                parts.append((word, self.fit(kind, item) if word == "mend" else what))
+        return tuple(parts)
+
+    def fit_table(self, kind, there):
+        changes = []
+        for key in sorted(set(self.some(kind[1])) | {key for key in there if self.random.randrange(2)}):
+            if key not in there:
+                changes.append((key, self.random.choice([("out",), ("add", self.value(kind[2]))])))
+            else:
+                mend = ("mend", self.fit(kind[2], there[key]))
+                changes.append((key, self.random.choice([mend, mend, ("cut", there[key])])))
+        return tuple(changes)
+
+    def otherwise(self, kind, patch):
+        """A patch that is alike."""
+        word = patch[0]
+        if word == "same":
+            return self.same_otherwise(kind)
+        if word in ("only", "turn"):
+            return self.turn_otherwise(kind, patch[1], patch[-1])
+        if word == "record":
+            return ("record", tuple(self.otherwise(inner, piece) for inner, piece in zip(kind[1], patch[1])))
+        if word == "choice":
+            return ("choice", patch[1], self.otherwise(kind[1][patch[1]], patch[2]))
+        if word == "row":
+            return ("row", self.row_otherwise(kind[1], patch[1]))
+        if word == "table":
+            return ("table", tuple((key, self.change_otherwise(kind[2], change)) for key, change in patch[1]))
+        return patch
+
+    def change_otherwise(self, kind, change):
+        return ("mend", self.otherwise(kind, change[1])) if change[0] == "mend" else change
+
+    def same_otherwise(self, kind):
+        if kind[0] == "record" and self.random.randrange(2):
+            return ("record", tuple(self.same_otherwise(inner) for inner in kind[1]))
+        if kind[0] in ("set", "bag", "table") and self.random.randrange(2):
+            return (kind[0], ())
+        return ("same",)
+
+    def turn_otherwise(self, kind, v, w):
+        if kind[0] == "record" and self.random.randrange(2):
+            return ("record", tuple(self.turn_otherwise(inner, a, b) for inner, a, b in zip(kind[1], v, w)))
+        if kind[0] == "choice" and v[0] == w[0] and self.random.randrange(2):
+            return ("choice", v[0], self.turn_otherwise(kind[1][v[0]], v[1], w[1]))
+        if kind[0] == "row" and self.random.randrange(2):
+            cuts, adds = [("cut", item) for item in v], [("add", item) for item in w]
+            return ("row", tuple(self.shuffled(cuts, adds)))
+        return ("only", v) if v == w else ("turn", v, w)
+
+    def shuffled(self, cuts, adds):
+        """Both in their order, mixed with each other."""
+        found, cuts, adds = [], list(cuts), list(adds)
+        while cuts or adds:
+            found.append((cuts if not adds or cuts and self.random.randrange(2) else adds).pop(0))
+        return found
+
+    def row_otherwise(self, kind, parts):
+        found, cuts, adds = [], [], []
+        for word, what in list(parts) + [("end", None)]:
+            if word == "cut":
+                cuts.append((word, what))
+            elif word == "add":
+                adds.append((word, what))
+            else:
+                found += self.together(kind, cuts, adds)
+                cuts, adds = [], []
+                if word == "keep":
+                    found += [self.random.choice([("keep", 1), ("mend", self.same_otherwise(kind))])
+                              for _ in range(what)]
+                elif word == "mend":
+                    found.append((word, self.otherwise(kind, what)))
+        return tuple(found)
+
+    def together(self, kind, cuts, adds):
+        """Cuts and adds that stand side by side, or as a "mend" of one value alone if there is one of each."""
+        if len(cuts) == len(adds) == 1 and self.random.randrange(2):
+            return [("mend", self.turn_otherwise(kind, cuts[0][1], adds[0][1]))]
+        return self.shuffled(cuts, adds)
+
+
+class Wide(Fitting):
+    """The same for kinds that have very many light values."""
+
+    def value(self, kind):
+        word = kind[0]
+        many = self.random.randrange(4)
+        if word == "number":
+            return self.random.randrange(kind[1])
+        if word == "record":
+            return tuple(self.value(inner) for inner in kind[1])
+        if word == "choice":
+            k = self.random.randrange(len(kind[1]))
+            return (k, self.value(kind[1][k]))
+        if word == "row":
+            return tuple(self.value(kind[1]) for _ in range(many))
+        some = sorted({self.value(kind[1]) for _ in range(many)})
+        if word == "set":
+            return tuple(some)
+        return tuple((v, self.random.randrange(1, 9) if word == "bag" else self.value(kind[2])) for v in some)
+
+
 class NoFit(Exception):
     """A patch does not fit, by the second meaning."""
 

@@ -66,6 +66,35 @@ class Rules(unittest.TestCase):
             self.assertIsNone(alias.asname)
             self.assertIn(alias.name, names)
 
+    def test_no_two_files_import_from_each_other(self):
+        needs = {path.stem: {node.module.split(".")[1] for node in ast.walk(tree) if isinstance(node, ast.ImportFrom)}
+                 for path, tree in trees()}
+        while needs:
+            free = [name for name, others in needs.items() if not others & set(needs)]
+            self.assertTrue(free, needs)
+            for name in free:
+                del needs[name]
+
+    def test_imports_are_used_and_not_hidden(self):
+        for path, tree in trees():
+            imported = [alias.name for node in tree.body if isinstance(node, ast.ImportFrom) for alias in node.names]
+            self.assertEqual(len(imported), len(set(imported)), path.name)
+            names = [node for node in ast.walk(tree) if isinstance(node, ast.Name)]
+            for name in imported:
+                self.assertIn(name, [node.id for node in names], path.name)
+            stored = [node.id for node in names if isinstance(node.ctx, ast.Store)]
+            stored += [node.arg for node in ast.walk(tree) if isinstance(node, ast.arg)]
+            self.assertEqual(set(stored) & set(imported), set(), path.name)
+
+    def test_stars(self):
+        for path, tree in trees():
+            for node in ast.walk(tree):
+                if isinstance(node, ast.Call):
+                    for each in node.args:
+                        if isinstance(each, ast.Starred):
+                            self.assertIsInstance(each.value, (ast.Name, ast.Attribute), (path.name, node.lineno))
+                    self.assertEqual([word.arg for word in node.keywords], [], (path.name, node.lineno))
+
     def test_names(self):
         builtin = set(dir(builtins))
         for path, tree in trees():
